@@ -1,0 +1,1 @@
+"""Heldbest: desks and seekers that at every moment hold a best assignment."""

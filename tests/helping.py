@@ -1,0 +1,92 @@
+"""What the tests share: asking a function with lists and with tuples, and comparing errors."""
+
+import copy
+import unittest
+
+from heldbest.tables import Table
+from heldbest.tabletexts import read_table
+
+EXAMPLE = "most 3\nplaces 1 1\nrow 4 1\nrow 3 2\nrow 2 2"
+
+FIELDS = {
+    "OutOfRange": ("what", "value"),
+    "Unread": ("line",),
+    "Unfit": ("fault",),
+    "NotAccepted": ("fault",),
+    "BadStart": ("fault",),
+    "BadSlips": ("fault",),
+    "TooHeavy": ("work",),
+    "NotBest": ("value",),
+    "NotOneChange": (),
+    "BadWord": ("word",),
+    "Busy": ("target",),
+    "NoLetter": ("at",),
+    "Down": ("kind", "number"),
+    "Up": ("kind", "number"),
+    "NotSynced": ("kind", "number"),
+    "BadEvent": ("at",),
+    "NotAtRest": (),
+    "NothingToUndo": (),
+    "NothingToRedo": (),
+    "Warm": ("era",),
+}
+
+
+def example():
+    return read_table(EXAMPLE)
+
+
+def as_lists(thing):
+    if isinstance(thing, (list, tuple)):
+        return [as_lists(item) for item in thing]
+    return thing
+
+
+def as_tuples(thing):
+    if isinstance(thing, (list, tuple)):
+        return tuple(as_tuples(item) for item in thing)
+    return thing
+
+
+def shown(thing):
+    """A text in which lists and tuples, numbers and truths, and tables by their fields, are told apart."""
+    if isinstance(thing, Table):
+        return f"Table({shown(thing.places)}, {shown(thing.rows)}, {shown(thing.most)})"
+    if isinstance(thing, list):
+        return "[" + ", ".join(shown(item) for item in thing) + "]"
+    if isinstance(thing, tuple):
+        return "(" + "".join(shown(item) + ", " for item in thing) + ")"
+    if isinstance(thing, dict):
+        return "{" + "".join(f"{key}: {shown(item)}, " for key, item in thing.items()) + "}"
+    return repr(thing)
+
+
+def error_shown(error):
+    name = error.__class__.__name__
+    return name + shown(tuple(getattr(error, field) for field in FIELDS.get(name, ())))
+
+
+class Case(unittest.TestCase):
+    """Each question is asked with all lists as lists and again with all lists as tuples."""
+
+    maxDiff = None
+
+    def asked(self, ask, passed, named):
+        before = shown((copy.copy(passed), named))
+        try:
+            return ask(*passed, **named)
+        finally:
+            self.assertEqual(shown((passed, named)), before, "what was passed has changed")
+
+    def answers(self, expected, ask, *passed, **named):
+        for form in (as_lists, as_tuples):
+            told = {key: form(item) for key, item in named.items()}
+            answer = self.asked(ask, tuple(form(item) for item in passed), told)
+            self.assertEqual(shown(answer), shown(expected), (ask, passed, named))
+
+    def refuses(self, expected, ask, *passed, **named):
+        for form in (as_lists, as_tuples):
+            told = {key: form(item) for key, item in named.items()}
+            with self.assertRaises(expected.__class__, msg=(ask, passed, named)) as caught:
+                self.asked(ask, tuple(form(item) for item in passed), told)
+            self.assertEqual(error_shown(caught.exception), error_shown(expected), (ask, passed, named))
