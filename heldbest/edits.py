@@ -1,8 +1,8 @@
 """New tables that differ from a table in one thing."""
 
-from heldbest.limits import MOST_PLACES, within
+from heldbest.limits import within
 from heldbest.lots import seekers_of
-from heldbest.parameters import look_at_desk, look_at_seeker, look_at_worth, row_of
+from heldbest.parameters import look_at_desk, look_at_seeker, row_of
 from heldbest.tables import Table
 
 
@@ -25,7 +25,6 @@ def valued(table, seeker, desk, worth):
     """The table with the worth in this cell."""
     look_at_seeker(table, seeker)
     look_at_desk(table, desk)
-    look_at_worth(worth)
     row = list(table.rows[seeker])
     row[desk] = worth
     return rowed(table, seeker, row)
@@ -34,7 +33,6 @@ def valued(table, seeker, desk, worth):
 def placed(table, desk, places):
     """The table with this number of places at the desk."""
     look_at_desk(table, desk)
-    within("places", places, 1, MOST_PLACES)
     counts = list(table.places)
     counts[desk] = places
     return Table(counts, table.rows, table.most)

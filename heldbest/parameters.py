@@ -20,10 +20,6 @@ def look_at_desk_or_none(table, desk):
     within("desk", desk, -1, table.desks - 1)
 
 
-def look_at_worth(worth):
-    within("worth", worth, 0, MOST_WORTH)
-
-
 def look_at_measure(measure):
     within("measure", measure, 1, MOST_MEASURE)
 
@@ -40,7 +36,7 @@ def row_of(row, desks):
     """The row of a seeker where there are so many desks."""
     within("row", len(row), desks, desks)
     for worth in row:
-        look_at_worth(worth)
+        within("worth", worth, 0, MOST_WORTH)
     return tuple(row)
 
 

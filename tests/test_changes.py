@@ -50,6 +50,8 @@ class ChangesTest(Case):
         self.refuses_both_ways(table(), table((2, 5, 1), [(*row, 0) for row in ROWS]))
         self.refuses_both_ways(table((2,), ()), table((2, 5), ()))
         self.refuses_both_ways(table((2,), ()), table((2, 2), ()))
+        self.refuses_both_ways(table((2,), ()), table((3, 5), ()))
+        self.refuses_both_ways(table((2,), ()), table((1, 2), ()))
 
     def test_a_seeker_less(self):
         self.refuses(NotOneChange(), changed, table(), table(rows=ROWS[:2]))

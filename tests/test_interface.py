@@ -25,6 +25,41 @@ FUNCTIONS = {
         "value": "(table, held)",
         "holders": "(table, held, desk)",
     },
+    "listings": {
+        "plain_work": "(table, lot=None)",
+        "assignments": "(table, lot=None)",
+        "count_assignments": "(table, lot=None)",
+    },
+    "plain": {"plain_best": "(table, lot=None)", "plain_bests": "(table, lot=None)"},
+    "strands": {"difference": "(table, one, two)"},
+    "chains": {
+        "strand_gain": "(table, steps)",
+        "follow": "(table, held, steps)",
+        "mixed": "(table, one, two, picks)",
+    },
+    "judging": {
+        "envy": "(table, seeker, desk, prices, *, measure=1, slack=0)",
+        "judge": "(table, held, prices, *, lot=None, measure=1, slack=0)",
+    },
+    "duals": {
+        "gain": "(table, seeker, desk, prices, *, measure=1)",
+        "profit": "(table, seeker, prices, *, measure=1)",
+        "profits": "(table, prices, *, measure=1)",
+        "ceiling": "(table, prices, *, lot=None, measure=1)",
+    },
+    "entries": {
+        "price_of": "(entries, places)",
+        "amount_of": "(entries, seeker)",
+        "take": "(entries, places, seeker, amount)",
+    },
+    "starts": {
+        "start_fault": "(table, start)",
+        "start_held": "(table, start)",
+        "start_prices": "(table, start)",
+        "start_of": "(table, held, prices)",
+        "is_cold": "(table, start)",
+    },
+    "papertexts": {"write_paper": "(table, held, prices)", "read_paper": "(table, text)"},
 }
 
 CLASSES = {
@@ -47,6 +82,10 @@ class InterfaceTest(unittest.TestCase):
                     self.assertTrue(inspect.isfunction(function))
                     self.assertEqual(function.__module__, "heldbest." + module)
                     self.assertEqual(str(inspect.signature(function)), parameters)
+
+    def test_generators(self):
+        listings = importlib.import_module("heldbest.listings")
+        self.assertTrue(inspect.isgeneratorfunction(listings.assignments))
 
     def test_classes(self):
         for module, classes in CLASSES.items():

@@ -1,0 +1,47 @@
+"""The examples of the document, as far as the modules that there are can answer them."""
+
+from heldbest.entries import take
+from heldbest.errors import OutOfRange, Unread
+from heldbest.judging import judge
+from heldbest.plain import plain_best
+from heldbest.starts import start_fault
+from heldbest.strands import difference
+from heldbest.tables import Table
+from heldbest.tabletexts import read_table
+from tests.helping import Case
+
+
+class ExamplesTest(Case):
+    def test_the_first_table(self):
+        table = read_table('most 3\nplaces 1 1\nrow 4 1\nrow 3 2\nrow 2 2')
+        self.assertEqual((table.scale, plain_best(table)[0]), (10, 6))
+
+    def test_the_judge(self):
+        table = read_table('most 3\nplaces 1 1\nrow 4 1\nrow 3 2\nrow 2 2')
+        self.answers(('envy', 2, 1), judge, table, (0, 1, -1), (2, 1))
+
+    def test_a_difference(self):
+        table = read_table('most 3\nplaces 1 1\nrow 4 1\nrow 3 2\nrow 2 2')
+        self.answers(((True, ((0, 0, 1), (1, 1, 0))),), difference, table, (0, 1, -1), (1, 0, -1))
+
+    def test_a_text_that_is_unread(self):
+        self.refuses(Unread(3), read_table, 'most 3\nplaces 1 1\nrow 4 01')
+
+    def test_a_table_that_is_refused(self):
+        self.refuses(OutOfRange('most', 0), Table, [1], [[5]], 0)
+
+    def test_a_bid_that_is_taken(self):
+        self.answers(('taken', ((0, 5), (1, 4)), 2), take, ((1, 4), (2, 4)), 2, 0, 5)
+
+    def test_a_table_text(self):
+        table = read_table('most 3\nplaces 1 2\nrow 4 0')
+        self.assertEqual((table.desks, table.seekers, table.most, table.places), (2, 1, 3, (1, 2)))
+
+    def test_a_strand(self):
+        table = Table([1, 1], [[1, 1], [1, 1]], 3)
+        self.answers(((False, ((1, -1, 0), (0, 0, -1))),), difference, table, (0, -1), (-1, 0))
+
+    def test_two_starts(self):
+        table = read_table('most 3\nplaces 1 1\nrow 4 1\nrow 3 2\nrow 2 2')
+        self.answers(('envy', 1, 0), start_fault, table, (((0, 20),), ((1, 20),)))
+        self.answers(None, start_fault, table, (((0, 30),), ((1, 20),)))
