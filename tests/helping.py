@@ -1,6 +1,5 @@
 """What the tests share: asking a function with lists and with tuples, and comparing errors."""
 
-import copy
 import unittest
 
 from heldbest.tables import Table
@@ -48,6 +47,17 @@ def as_tuples(thing):
     return thing
 
 
+def lists_of_tuples(thing):
+    return list(as_tuples(thing)) if isinstance(thing, (list, tuple)) else thing
+
+
+def tuples_of_lists(thing):
+    return tuple(as_lists(thing)) if isinstance(thing, (list, tuple)) else thing
+
+
+FORMS = (as_lists, as_tuples, lists_of_tuples, tuples_of_lists)
+
+
 def shown(thing):
     """A text in which lists and tuples, numbers and truths, and tables by their fields, are told apart."""
     if isinstance(thing, Table):
@@ -67,25 +77,25 @@ def error_shown(error):
 
 
 class Case(unittest.TestCase):
-    """Each question is asked with all lists as lists and again with all lists as tuples."""
+    """Each question is asked with lists, with tuples, and with each of them inside of the other."""
 
     maxDiff = None
 
     def asked(self, ask, passed, named):
-        before = shown((copy.copy(passed), named))
+        before = shown((passed, named))
         try:
             return ask(*passed, **named)
         finally:
             self.assertEqual(shown((passed, named)), before, "what was passed has changed")
 
     def answers(self, expected, ask, *passed, **named):
-        for form in (as_lists, as_tuples):
+        for form in FORMS:
             told = {key: form(item) for key, item in named.items()}
             answer = self.asked(ask, tuple(form(item) for item in passed), told)
             self.assertEqual(shown(answer), shown(expected), (ask, passed, named))
 
     def refuses(self, expected, ask, *passed, **named):
-        for form in (as_lists, as_tuples):
+        for form in FORMS:
             told = {key: form(item) for key, item in named.items()}
             with self.assertRaises(expected.__class__, msg=(ask, passed, named)) as caught:
                 self.asked(ask, tuple(form(item) for item in passed), told)

@@ -85,12 +85,12 @@ class ListingsTest(Case):
         self.answers(4096, plain_work, roomy)
         self.assertEqual(list(listed(roomy)), list(product((-1, 0, 1, 2), repeat=6)))
         many = Table([1], [[1]] * 30, 30)
-        self.answers(13, count_assignments, many, range(18, 30))
+        self.answers(13, count_assignments, many, list(range(18, 30)))
 
     def test_too_heavy(self):
         for ask in (listed, count_assignments, plain_best, plain_bests):
             self.refuses(TooHeavy(8192), ask, Table([1], [[0]] * 13, 30))
-            self.refuses(TooHeavy(8192), ask, Table([1], [[1]] * 30, 30), range(13))
+            self.refuses(TooHeavy(8192), ask, Table([1], [[1]] * 30, 30), list(range(13)))
             self.refuses(TooHeavy(6561), ask, Table([1, 1], [[1, 1]] * 8, 30), None)
             self.refuses(TooHeavy(7 ** 30), ask, Table([1] * 6, [[1] * 6] * 30, 30))
 
