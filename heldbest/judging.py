@@ -1,6 +1,7 @@
 """The judge of assignments and price rows."""
 
 from heldbest.duals import gain_at, gains_at
+from heldbest.errors import NotAccepted
 from heldbest.lots import seekers_of
 from heldbest.parameters import (
     held_of, look_at_desk_or_none, look_at_measure, look_at_seeker, look_at_slack, prices_of,
@@ -41,6 +42,13 @@ def judge(table, held, prices, *, lot=None, measure=1, slack=0):
         if rather is not None:
             return ("envy", seeker, rather)
     return None
+
+
+def look_at_accepted(table, held, prices, lot=None):
+    """Refuse an assignment of the lot that the price row does not accept."""
+    fault = judge(table, held, prices, lot=lot)
+    if fault is not None:
+        raise NotAccepted(fault)
 
 
 def stranger_fault(held, members):

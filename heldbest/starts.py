@@ -1,8 +1,8 @@
 """Starts: the entries of each desk of a table."""
 
 from heldbest.entries import look_at_amount, price_of
-from heldbest.errors import BadStart, NotAccepted
-from heldbest.judging import judge
+from heldbest.errors import BadStart
+from heldbest.judging import look_at_accepted
 from heldbest.limits import within
 from heldbest.parameters import look_at_seeker
 
@@ -34,9 +34,7 @@ def start_prices(table, start):
 
 def start_of(table, held, prices):
     """The start in which each holder has the scale times its desk's price as its amount."""
-    fault = judge(table, held, prices)
-    if fault is not None:
-        raise NotAccepted(fault)
+    look_at_accepted(table, held, prices)
     amounts = [table.scale * price for price in prices]
     return tuple([
         tuple([(seeker, amounts[desk]) for seeker, own in enumerate(held) if own == desk])

@@ -10,6 +10,11 @@ def difference(table, one, two):
     new = held_of(table, two)
     look_at_fit(table, old)
     look_at_fit(table, new)
+    return strands_between(table, old, new)
+
+
+def strands_between(table, old, new):
+    """The strands from `old` to `new`, whether they fit or not."""
     movers = [seeker for seeker in range(table.seekers) if old[seeker] != new[seeker]]
     followers = followers_of(table, movers, old, new)
     lines = lines_of_movers(movers, followers)

@@ -2,8 +2,11 @@
 
 import unittest
 
+from heldbest.errors import OutOfRange
 from heldbest.tables import Table
 from heldbest.tabletexts import read_table
+
+HUGE = 10 ** 40
 
 EXAMPLE = "most 3\nplaces 1 1\nrow 4 1\nrow 3 2\nrow 2 2"
 
@@ -100,3 +103,17 @@ class Case(unittest.TestCase):
             with self.assertRaises(expected.__class__, msg=(ask, passed, named)) as caught:
                 self.asked(ask, tuple(form(item) for item in passed), told)
             self.assertEqual(error_shown(caught.exception), error_shown(expected), (ask, passed, named))
+
+    def refuses_lots(self, ask, ahead, behind=()):
+        """`ask` has a lot of three seekers between what it is passed ahead of it and behind it."""
+        for wrong in (-1, 3, HUGE, -HUGE):
+            self.refuses(OutOfRange("seeker", wrong), ask, *ahead, [wrong], *behind)
+            self.refuses(OutOfRange("seeker", wrong), ask, *ahead, [0, wrong, 0], *behind)
+        self.refuses(OutOfRange("seeker", 1), ask, *ahead, [1, 1], *behind)
+        self.refuses(OutOfRange("seeker", 0), ask, *ahead, [0, 1, 0, 9], *behind)
+        self.refuses(OutOfRange("seeker", 1), ask, *ahead, [2, 1], *behind)
+
+    def refuses_one(self, what, wrongs, ask, ahead, behind=()):
+        """Each of the wrong numbers is refused where it stands between what is passed ahead of it and behind it."""
+        for wrong in (*wrongs, HUGE, -HUGE):
+            self.refuses(OutOfRange(what, wrong), ask, *ahead, wrong, *behind)

@@ -1,9 +1,12 @@
 """The examples of the document, as far as the modules that there are can answer them."""
 
+from heldbest.corners import cell_use, corner
 from heldbest.entries import take
 from heldbest.errors import OutOfRange, Unread
 from heldbest.judging import judge
-from heldbest.plain import plain_best
+from heldbest.leastrows import least_prices
+from heldbest.plain import plain_bests
+from heldbest.solving import best_value
 from heldbest.starts import start_fault
 from heldbest.strands import difference
 from heldbest.tables import Table
@@ -14,7 +17,8 @@ from tests.helping import Case
 class ExamplesTest(Case):
     def test_the_first_table(self):
         table = read_table('most 3\nplaces 1 1\nrow 4 1\nrow 3 2\nrow 2 2')
-        self.assertEqual((table.scale, plain_best(table)[0]), (10, 6))
+        self.assertEqual((table.scale, best_value(table), least_prices(table)), (10, 6, (3, 2)))
+        self.assertEqual(plain_bests(table), ((0, -1, 1), (0, 1, -1)))
 
     def test_the_judge(self):
         table = read_table('most 3\nplaces 1 1\nrow 4 1\nrow 3 2\nrow 2 2')
@@ -45,3 +49,8 @@ class ExamplesTest(Case):
         table = read_table('most 3\nplaces 1 1\nrow 4 1\nrow 3 2\nrow 2 2')
         self.answers(('envy', 1, 0), start_fault, table, (((0, 20),), ((1, 20),)))
         self.answers(None, start_fault, table, (((0, 30),), ((1, 20),)))
+
+    def test_a_corner(self):
+        table = read_table('most 3\nplaces 1 1\nrow 4 1\nrow 3 2\nrow 2 2')
+        self.answers(4, corner, table, 2, 0)
+        self.answers(-1, cell_use, table, 2, 0)

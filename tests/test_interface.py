@@ -60,6 +60,25 @@ FUNCTIONS = {
         "is_cold": "(table, start)",
     },
     "papertexts": {"write_paper": "(table, held, prices)", "read_paper": "(table, text)"},
+    "solving": {"solve": "(table, lot=None)", "best_value": "(table, lot=None)"},
+    "gains": {"best_way": "(table, lot, held, prices, seeker)"},
+    "entering": {"enter": "(table, lot, held, prices, seeker)"},
+    "leaving": {"leave": "(table, lot, held, prices, seeker)"},
+    "mending": {"mend": "(before, held, after)"},
+    "leastrows": {"least_prices": "(table, lot=None)"},
+    "greatestrows": {"greatest_prices": "(table, lot=None)"},
+    "lattices": {
+        "is_accepted": "(table, prices, lot=None)",
+        "price_ranges": "(table, lot=None)",
+        "accepted_rows": "(table, lot=None)",
+    },
+    "margins": {
+        "one_more": "(table, desk)",
+        "one_less": "(table, desk)",
+        "gain_for_all": "(table, seeker)",
+        "cost_to_others": "(table, held, seeker)",
+    },
+    "corners": {"corner": "(table, seeker, desk)", "cell_use": "(table, seeker, desk)"},
 }
 
 CLASSES = {
@@ -92,7 +111,9 @@ class InterfaceTest(unittest.TestCase):
 
     def test_generators(self):
         listings = importlib.import_module("heldbest.listings")
+        lattices = importlib.import_module("heldbest.lattices")
         self.assertTrue(inspect.isgeneratorfunction(listings.assignments))
+        self.assertTrue(inspect.isgeneratorfunction(lattices.accepted_rows))
 
     def test_classes(self):
         for module, classes in CLASSES.items():

@@ -1,10 +1,11 @@
-from itertools import combinations, product
+from itertools import product
 
 from heldbest.errors import OutOfRange, TooHeavy
 from heldbest.listings import assignments, count_assignments, plain_work
 from heldbest.plain import plain_best, plain_bests
 from heldbest.tables import Table
 from tests.helping import Case, example
+from tests.plainly import every_lot
 
 HUGE = 10 ** 40
 
@@ -34,10 +35,6 @@ def plain_list(table, lot):
 
 def plain_value(table, held):
     return sum(table.rows[seeker][desk] for seeker, desk in enumerate(held) if desk != -1)
-
-
-def every_lot(table):
-    return [lot for size in range(table.seekers + 1) for lot in combinations(range(table.seekers), size)]
 
 
 class ListingsTest(Case):

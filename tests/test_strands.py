@@ -6,36 +6,9 @@ from heldbest.plain import plain_bests
 from heldbest.strands import difference
 from heldbest.tables import Table
 from tests.helping import Case, example
+from tests.plainly import plain_strands
 
 HUGE = 10 ** 40
-
-
-def plain_strands(table, one, two):
-    """The strands, straight from their description."""
-    moving = [seeker for seeker in range(table.seekers) if one[seeker] != two[seeker]]
-    following = {}
-    for desk in range(table.desks):
-        comers = sorted(seeker for seeker in moving if two[seeker] == desk)
-        leavers = sorted(seeker for seeker in moving if one[seeker] == desk)
-        for k in range(min(len(comers), len(leavers))):
-            following[leavers[k]] = comers[k]
-    behind = {leader: seeker for seeker, leader in following.items()}
-    opened, closed, done = [], [], set()
-    for first in moving:
-        if first not in following:
-            seekers = [first]
-            while seekers[-1] in behind:
-                seekers.append(behind[seekers[-1]])
-            done.update(seekers)
-            opened.append((False, tuple((seeker, one[seeker], two[seeker]) for seeker in seekers)))
-    for first in moving:
-        if first not in done:
-            seekers = [first]
-            while behind[seekers[-1]] != first:
-                seekers.append(behind[seekers[-1]])
-            done.update(seekers)
-            closed.append((True, tuple((seeker, one[seeker], two[seeker]) for seeker in seekers)))
-    return tuple(opened + closed)
 
 
 class DifferenceTest(Case):
