@@ -23,12 +23,17 @@ def take(entries, places, seeker, amount):
     look_at_bidder(seeker)
     look_at_amount(amount)
     look_at_room(taken, places)
-    if own_amount(taken, seeker) != -1:
-        return ("held", taken, -1)
-    if amount <= least_amount(taken, places):
-        return ("low", taken, -1)
-    out = weakest(taken) if len(taken) == places else -1
-    kept = [entry for entry in taken if entry[0] != out]
+    return taken_bid(taken, places, seeker, amount)
+
+
+def taken_bid(entries, places, seeker, amount):
+    """What `take` answers of what was looked at already."""
+    if own_amount(entries, seeker) != -1:
+        return ("held", entries, -1)
+    if amount <= least_amount(entries, places):
+        return ("low", entries, -1)
+    out = weakest(entries) if len(entries) == places else -1
+    kept = [entry for entry in entries if entry[0] != out]
     return ("taken", tuple(sorted([*kept, (seeker, amount)])), out)
 
 

@@ -32,12 +32,17 @@ def look_at_text(text):
     within("text", len(text), 0, MOST_TEXT)
 
 
+def numbers_of(word, numbers, length, item, most):
+    """The numbers, so many of them and each from 0 to `most`; the words are those of refusals."""
+    within(word, len(numbers), length, length)
+    for number in numbers:
+        within(item, number, 0, most)
+    return tuple(numbers)
+
+
 def row_of(row, desks):
     """The row of a seeker where there are so many desks."""
-    within("row", len(row), desks, desks)
-    for worth in row:
-        within("worth", worth, 0, MOST_WORTH)
-    return tuple(row)
+    return numbers_of("row", row, desks, "worth", MOST_WORTH)
 
 
 def held_of(table, held):
@@ -50,7 +55,4 @@ def held_of(table, held):
 
 def prices_of(table, prices):
     """The price row."""
-    within("prices", len(prices), table.desks, table.desks)
-    for price in prices:
-        within("price", price, 0, MOST_PRICE)
-    return tuple(prices)
+    return numbers_of("prices", prices, table.desks, "price", MOST_PRICE)

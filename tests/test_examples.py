@@ -1,11 +1,15 @@
 """The examples of the document, as far as the modules that there are can answer them."""
 
+from heldbest.choosing import choose, left_at
 from heldbest.corners import cell_use, corner
 from heldbest.entries import take
 from heldbest.errors import OutOfRange, Unread
+from heldbest.falserows import nets
 from heldbest.judging import judge
 from heldbest.leastrows import least_prices
+from heldbest.letters import write_letter
 from heldbest.plain import plain_bests
+from heldbest.reasons import reason, reason_fault
 from heldbest.solving import best_value
 from heldbest.starts import start_fault
 from heldbest.strands import difference
@@ -54,3 +58,19 @@ class ExamplesTest(Case):
         table = read_table('most 3\nplaces 1 1\nrow 4 1\nrow 3 2\nrow 2 2')
         self.answers(4, corner, table, 2, 0)
         self.answers(-1, cell_use, table, 2, 0)
+
+    def test_false_rows(self):
+        table = read_table('most 3\nplaces 1 1\nrow 4 1\nrow 3 2\nrow 2 2')
+        self.answers((0, 0), nets, table, 2, (5, 5))
+
+    def test_reasons(self):
+        table = read_table('most 3\nplaces 1 1\nrow 4 1\nrow 3 2\nrow 2 2')
+        self.answers(((2, 1),), reason, table, (0, 1, -1), (3, 2), 1)
+        self.answers(None, reason_fault, table, (0, 1, -1), (3, 2), 0, ((2, 1), (1, 0)))
+
+    def test_a_choice(self):
+        self.answers((0, 30), choose, (4, 1), 10, (29, 0))
+        self.answers((11, 10), left_at, (4, 1), 10, (29, 0))
+
+    def test_a_letter(self):
+        self.answers('bid 0 2 1 5', write_letter, ('bid', 0, 2, 1, 5))

@@ -79,6 +79,25 @@ FUNCTIONS = {
         "cost_to_others": "(table, held, seeker)",
     },
     "corners": {"corner": "(table, seeker, desk)", "cell_use": "(table, seeker, desk)"},
+    "groups": {
+        "group_value": "(table, lot, seats)",
+        "betters": "(table, profits, prices, lot, seats)",
+        "pair_fault": "(table, profits, prices)",
+    },
+    "reasons": {
+        "reason": "(table, held, prices, desk)",
+        "reason_fault": "(table, held, prices, desk, steps)",
+    },
+    "falserows": {"nets": "(table, seeker, row)"},
+    "letters": {
+        "bid_letter": "(era, seeker, desk, amount)",
+        "told_letter": "(era, desk, seeker, serial, price, own)",
+        "address": "(letter)",
+        "write_letter": "(letter)",
+        "read_letter": "(text)",
+    },
+    "choosing": {"left_at": "(row, scale, known)", "choose": "(row, scale, known)"},
+    "sums": {"text_sum": "(text)"},
 }
 
 CLASSES = {
@@ -89,6 +108,41 @@ CLASSES = {
             "weight": "(self, seeker, desk)",
         },
     },
+    "houses": {"House": {"__init__": "(self, number, era)", "words": "(self)"}},
+    "desks": {
+        "DeskHouse": {
+            "__init__": "(self, number, era, places, entries=(), *, serial=0)",
+            "take": "(self, seeker, amount)",
+            "wait": "(self, seeker)",
+            "told": "(self, seeker)",
+            "served": "(self)",
+            "words": "(self)",
+            "moved": "(self, era, places, entries)",
+        },
+    },
+    "seekers": {
+        "SeekerHouse": {
+            "__init__": "(self, number, era, row, scale, bid=None)",
+            "decide": "(self)",
+            "hear": "(self, desk, serial, price, own)",
+            "letter": "(self)",
+            "words": "(self)",
+            "moved": "(self, era, row, scale, bid)",
+        },
+    },
+}
+
+PROPERTIES = {
+    "tables": {"Table": ("desks", "seekers", "scale")},
+    "desks": {"DeskHouse": ("entries", "price", "waits")},
+    "seekers": {"SeekerHouse": ("row", "scale", "known")},
+}
+
+CLASS_VALUES = {
+    "tables": {"Table": {"STEP": 3}},
+    "houses": {"House": {"KIND": "house"}},
+    "desks": {"DeskHouse": {"KIND": "desk"}},
+    "seekers": {"SeekerHouse": {"KIND": "seeker"}},
 }
 
 
@@ -123,3 +177,15 @@ class InterfaceTest(unittest.TestCase):
                 for method, parameters in methods.items():
                     with self.subTest(f"{module}.{name}.{method}"):
                         self.assertEqual(parameters_of(vars(made)[method]), parameters)
+
+    def test_properties_and_class_values(self):
+        for module, classes in PROPERTIES.items():
+            for name, properties in classes.items():
+                made = getattr(importlib.import_module("heldbest." + module), name)
+                for told in properties:
+                    with self.subTest(f"{module}.{name}.{told}"):
+                        self.assertIsInstance(vars(made)[told], property)
+        for module, classes in CLASS_VALUES.items():
+            for name, told in classes.items():
+                made = getattr(importlib.import_module("heldbest." + module), name)
+                self.assertEqual({key: vars(made)[key] for key in told}, told)
