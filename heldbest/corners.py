@@ -3,14 +3,11 @@
 from heldbest.edits import valued
 from heldbest.greatestrows import greatest_prices
 from heldbest.lots import lot_without
-from heldbest.parameters import look_at_desk, look_at_seeker
 from heldbest.solving import best_value
 
 
 def corner(table, seeker, desk):
     """The corner of the cell."""
-    look_at_seeker(table, seeker)
-    look_at_desk(table, desk)
     unused = best_value(valued(table, seeker, desk, 0))
     others = lot_without(table, None, seeker)
     # The greatest price is what the others lose with one place less.

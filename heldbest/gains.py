@@ -48,7 +48,11 @@ def ways_from(table, held, movers, desk):
 
 
 def ways_on(table, held, movers, begun):
-    """The best gain and its steps to each desk and to -1, for the begun ways and all that go on from them."""
+    """The best gain and its steps to each desk and to -1, for the begun ways and all that go on from them.
+
+    Where nothing is to be gained and no step is needed, there is none.
+    """
+    # A way gives place only to a better one, so the moves without a step come first.
     moves = free_moves(table, held) + [move for mover in movers for move in moves_of(table, held, mover)]
     ways = {desk: begun[desk] for desk in begun}
     # The best way to a desk needs no desk twice, so it has no more moves than there are desks.

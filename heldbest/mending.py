@@ -35,10 +35,5 @@ def steps_of_seeker(table, held, seeker):
 
 def steps_at_desk(table, held, desk, places):
     """The steps to a best assignment if the desk of the table has these places instead."""
-    everybody = seekers_of(table)
-    if places > table.places[desk]:
-        gain, steps = ways_from(table, held, everybody, -1)[desk]
-        return steps if gain > 0 else ()
-    if held.count(desk) <= places:
-        return ()
-    return ways_from(table, held, everybody, desk)[-1][1]
+    begin, end = (-1, desk) if places > table.places[desk] else (desk, -1)
+    return ways_from(table, held, seekers_of(table), begin)[end][1]

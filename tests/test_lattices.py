@@ -117,6 +117,12 @@ class AcceptedRowsTest(Case):
         rows = listed(HIGH)
         self.assertEqual(rows, tuple(product(range(64), repeat=2)))
 
+    def test_only_the_prices_between_count(self):
+        table = Table([1, 1], [[99, 0], [60, 0], [0, 99], [0, 98]], 4)
+        self.answers(((60, 99), (98, 99)), price_ranges, table)
+        expected = tuple(product(range(60, 100), (98, 99)))
+        self.answers(expected, listed, table)
+
     def test_a_product_above_4096(self):
         self.refuses(TooHeavy(64 * 65), listed, HIGHER)
         self.refuses(TooHeavy(64 * 65), listed, HIGHER, [0, 1])
