@@ -1,11 +1,11 @@
 """Desks, which take bids."""
 
 from heldbest.entries import (
-    entries_of, least_amount, look_at_amount, look_at_bidder, look_at_room, own_amount, taken_bid,
+    entries_of, least_amount, look_at_amount, look_at_bidder, look_at_places, look_at_room, own_amount, taken_bid,
 )
 from heldbest.houses import House
 from heldbest.letters import look_at_item, told_letter
-from heldbest.limits import MOST_PLACES, MOST_SERIAL, within
+from heldbest.limits import MOST_SERIAL
 
 
 class DeskHouse(House):
@@ -15,7 +15,7 @@ class DeskHouse(House):
 
     def __init__(self, number, era, places, entries=(), *, serial=0):
         look_at_item("desk", number)
-        House.__init__(self, number, era)
+        super().__init__(number, era)
         self._waits = ()
         self.moved(era, places, entries)
         look_at_item("serial", serial)
@@ -75,10 +75,16 @@ class DeskHouse(House):
         waits = [str(seeker) for seeker in self._waits]
         return (*head, str(self.places), str(self.serial), "entries", *entries, "waits", *waits)
 
+    def copied(self):
+        """A new desk in the same state."""
+        house = DeskHouse(self.number, self.era, self.places, self._entries, serial=self.serial)
+        house._waits = self._waits
+        return house
+
     def moved(self, era, places, entries):
         """Come to this era with these places and entries; those who wait still wait."""
         look_at_item("era", era)
-        within("places", places, 1, MOST_PLACES)
+        look_at_places(places)
         taken = entries_of(entries)
         look_at_room(taken, places)
         self.era = era

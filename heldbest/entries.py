@@ -40,7 +40,7 @@ def taken_bid(entries, places, seeker, amount):
 def seated_entries(entries, places):
     """A copy of the entries, when the places were looked at, too."""
     taken = entries_of(entries)
-    within("places", places, 1, MOST_PLACES)
+    look_at_places(places)
     return taken
 
 
@@ -61,6 +61,10 @@ def look_at_bidder(seeker):
 
 def look_at_amount(amount):
     within("amount", amount, 0, MOST_PRICE)
+
+
+def look_at_places(places):
+    within("places", places, 1, MOST_PLACES)
 
 
 def look_at_room(entries, places):

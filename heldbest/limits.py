@@ -15,6 +15,7 @@ MOST_LETTERS = 200
 MOST_WORK = 4096
 MOST_BIDS = 1000
 MOST_TEXT = 20000
+MOST_GENERATION = 99999
 
 
 def within(what, value, least, most):

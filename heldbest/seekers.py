@@ -13,7 +13,7 @@ class SeekerHouse(House):
 
     def __init__(self, number, era, row, scale, bid=None):
         look_at_item("seeker", number)
-        House.__init__(self, number, era)
+        super().__init__(number, era)
         self.moved(era, row, scale, bid)
 
     @property
@@ -71,6 +71,13 @@ class SeekerHouse(House):
         desk, amount = (-1, 0) if self.bid is None else self.bid
         known = [str(item) for pair in self._known for item in pair]
         return (*head, self.state, str(desk), str(amount), "knows", *known)
+
+    def copied(self):
+        """A new seeker in the same state."""
+        house = SeekerHouse(self.number, self.era, self._row, self._scale, self.bid)
+        house.state = self.state
+        house._known = self._known
+        return house
 
     def moved(self, era, row, scale, bid):
         """Come to this era as a new seeker with this row, scale and bid."""

@@ -10,6 +10,7 @@ from heldbest.leastrows import least_prices
 from heldbest.letters import write_letter
 from heldbest.plain import plain_bests
 from heldbest.reasons import reason, reason_fault
+from heldbest.records import read_records
 from heldbest.solving import best_value
 from heldbest.starts import start_fault
 from heldbest.strands import difference
@@ -74,3 +75,6 @@ class ExamplesTest(Case):
 
     def test_a_letter(self):
         self.answers('bid 0 2 1 5', write_letter, ('bid', 0, 2, 1, 5))
+
+    def test_a_torn_text(self):
+        self.answers(((('take', '1', '1'),), True), read_records, 'take 1 1 2105\ntake 2 5 21')

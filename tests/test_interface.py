@@ -98,6 +98,39 @@ FUNCTIONS = {
     },
     "choosing": {"left_at": "(row, scale, known)", "choose": "(row, scale, known)"},
     "sums": {"text_sum": "(text)"},
+    "records": {"write_record": "(words)", "read_records": "(text)"},
+    "desklogs": {
+        "desk_head": "(generation, era, places, serial, entries)",
+        "take_record": "(seeker, amount)",
+        "era_record": "(era, places, entries)",
+        "desk_state": "(text)",
+    },
+    "seekerlogs": {
+        "seeker_head": "(generation, era, bid)",
+        "bid_record": "(era, bid)",
+        "seeker_state": "(text)",
+    },
+    "compacting": {
+        "current_slot": "(kind, disk)",
+        "state_on": "(kind, disk)",
+        "new_head": "(kind, house, disk)",
+        "compact": "(kind, house, disk)",
+    },
+    "worlds": {
+        "desk_view": "(world, desk)",
+        "seeker_view": "(world, seeker)",
+        "disk_view": "(world, kind, number)",
+    },
+    "moments": {
+        "slip_now": "(world, desk)",
+        "slips_now": "(world)",
+        "held_now": "(world)",
+        "prices_now": "(world)",
+        "lot_now": "(world)",
+        "given_up": "(world)",
+        "taken_now": "(world)",
+        "at_rest": "(world)",
+    },
 }
 
 CLASSES = {
@@ -130,12 +163,45 @@ CLASSES = {
             "moved": "(self, era, row, scale, bid)",
         },
     },
+    "disks": {
+        "Disk": {
+            "__init__": "(self)",
+            "add": "(self, slot, text)",
+            "begin": "(self, slot, text)",
+            "sync": "(self)",
+            "cut": "(self, keep)",
+            "synced": "(self, slot)",
+        },
+    },
+    "gazette": {
+        "Gazette": {
+            "__init__": "(self, table)",
+            "table_of": "(self, era)",
+            "start_of_era": "(self, era)",
+            "admit": "(self, row)",
+            "turn": "(self, table, start)",
+        },
+    },
+    "nets": {
+        "Net": {
+            "__init__": "(self)",
+            "__iter__": "(self)",
+            "send": "(self, letter)",
+            "take_out": "(self, at)",
+            "at": "(self, at)",
+        },
+    },
+    "worlds": {"Home": {"__init__": "(self, house, disk)"}, "World": {"__init__": "(self, table)"}},
 }
 
 PROPERTIES = {
     "tables": {"Table": ("desks", "seekers", "scale")},
     "desks": {"DeskHouse": ("entries", "price", "waits")},
     "seekers": {"SeekerHouse": ("row", "scale", "known")},
+    "disks": {"Disk": ("pending",)},
+    "gazette": {"Gazette": ("newest", "newest_table", "newest_start", "cold")},
+    "nets": {"Net": ("letters",)},
+    "worlds": {"World": ("newest_table", "newest_era", "events")},
 }
 
 CLASS_VALUES = {
@@ -177,6 +243,11 @@ class InterfaceTest(unittest.TestCase):
                 for method, parameters in methods.items():
                     with self.subTest(f"{module}.{name}.{method}"):
                         self.assertEqual(parameters_of(vars(made)[method]), parameters)
+
+    def test_class_methods(self):
+        made = importlib.import_module("heldbest.disks").Disk
+        self.assertIsInstance(vars(made)["holding"], classmethod)
+        self.assertEqual(parameters_of(made.holding), "(first, second)")
 
     def test_properties_and_class_values(self):
         for module, classes in PROPERTIES.items():
