@@ -98,10 +98,18 @@ def home_of(world, kind, number):
 def new_desk_home(table, desk):
     """The home of a new desk in era 0."""
     places = table.places[desk]
-    return Home(DeskHouse(desk, 0, places), Disk.holding(desk_head(0, 0, places, 0, ()), ""))
+    return Home(DeskHouse(desk, 0, places), new_disk(desk_head(0, 0, places, 0, ())))
 
 
 def new_seeker_home(table, seeker, era):
     """The home of a new seeker in this era, whose table it is."""
     house = SeekerHouse(seeker, era, table.rows[seeker], table.scale)
-    return Home(house, Disk.holding(seeker_head(0, era, None), ""))
+    return Home(house, new_disk(seeker_head(0, era, None)))
+
+
+def new_disk(head):
+    """A disk with this head in slot 0."""
+    disk = Disk()
+    disk.begin(0, head)
+    disk.sync()
+    return disk

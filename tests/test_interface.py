@@ -131,6 +131,30 @@ FUNCTIONS = {
         "taken_now": "(world)",
         "at_rest": "(world)",
     },
+    "events": {"act": "(world, event)"},
+    "serving": {
+        "bids_bound": "(table)",
+        "rounds_bound": "(table)",
+        "serve": "(world)",
+        "rest": "(world)",
+    },
+    "traces": {
+        "write_event": "(event)",
+        "read_event": "(text)",
+        "write_trace": "(events)",
+        "read_trace": "(text)",
+        "replay": "(table, *events)",
+    },
+    "slips": {
+        "slips_fault": "(table, era, slips)",
+        "slips_held": "(table, era, slips)",
+        "slips_lot": "(table, era, slips)",
+        "write_slip": "(slip)",
+    },
+    "bills": {"bill": "(table, price)", "bills": "(world)", "ledger": "(world)"},
+    "worldtexts": {"world_text": "(world)"},
+    "trials": {"told_together": "(office, *lines)"},
+    "columns": {"columns": "(lines)"},
 }
 
 CLASSES = {
@@ -192,6 +216,29 @@ CLASSES = {
         },
     },
     "worlds": {"Home": {"__init__": "(self, house, disk)"}, "World": {"__init__": "(self, table)"}},
+    "clerks": {
+        "Clerk": {
+            "__init__": "(self, table, era)",
+            "note": "(self, *slips)",
+            "worth": "(self)",
+            "bills": "(self)",
+        },
+    },
+    "offices": {
+        "Office": {
+            "__init__": "(self, table)",
+            "tell": "(self, text)",
+            "undo": "(self)",
+            "redo": "(self)",
+        },
+    },
+    "trials": {
+        "Trial": {
+            "__init__": "(self, office)",
+            "__enter__": "(self)",
+            "__exit__": "(self, kind, value, trace)",
+        },
+    },
 }
 
 PROPERTIES = {
@@ -202,6 +249,8 @@ PROPERTIES = {
     "gazette": {"Gazette": ("newest", "newest_table", "newest_start", "cold")},
     "nets": {"Net": ("letters",)},
     "worlds": {"World": ("newest_table", "newest_era", "events")},
+    "clerks": {"Clerk": ("noted", "trouble", "lot", "held")},
+    "offices": {"Office": ("world", "record")},
 }
 
 CLASS_VALUES = {
