@@ -34,18 +34,17 @@ def prices_now(world):
 
 def lot_now(world):
     """The seekers that hold a desk, and those that have given up."""
+    held = held_now(world)
     return tuple([
-        seeker for seeker, desk in enumerate(held_now(world))
-        if desk != -1 or has_given_up(world, seeker)
+        seeker for seeker, home in enumerate(world.seeker_homes)
+        if held[seeker] != -1 or is_out(world, home.house)
     ])
 
 
 def given_up(world):
     """The seekers of the lot that hold nothing."""
-    return tuple([
-        seeker for seeker, desk in enumerate(held_now(world))
-        if desk == -1 and has_given_up(world, seeker)
-    ])
+    held = held_now(world)
+    return tuple([seeker for seeker in lot_now(world) if held[seeker] == -1])
 
 
 def taken_now(world):
@@ -77,9 +76,8 @@ def official_state(world, desk):
     return (world.newest_table.places[desk], 0, world.gazette.newest_start[desk])
 
 
-def has_given_up(world, seeker):
+def is_out(world, house):
     """True if the seeker is up, in the newest era and out."""
-    house = world.seeker_homes[seeker].house
     return house is not None and house.era == world.newest_era and house.state == "out"
 
 

@@ -1,10 +1,10 @@
 from heldbest.bills import bill, bills, ledger
-from heldbest.errors import NotAtRest, OutOfRange, Warm
+from heldbest.errors import NotAtRest, Warm
 from heldbest.moments import prices_now
 from heldbest.serving import rest
 from heldbest.tables import Table
 from heldbest.worlds import World
-from tests.helping import HUGE, example
+from tests.helping import example
 from tests.test_events import Events, cold, do, done
 
 

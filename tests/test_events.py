@@ -57,10 +57,14 @@ class ToldEventsTest(Events):
         for form in (as_lists, as_tuples):
             world = done()
             for many, event in enumerate(events, start=1):
-                self.assertIsNone(act(world, form(event)))
+                passed = form(event)
+                self.assertIsNone(act(world, passed))
+                self.assertEqual(shown(passed), shown(form(event)))
                 self.assertEqual(shown(world.events), shown(events[:many]))
         world = done()
-        act(world, ["turn", ["same"], "given", [[[0, 30]], [[1, 20]]]])
+        passed = ["turn", ["same"], "given", [[[0, 30]], [[1, 20]]]]
+        act(world, passed)
+        self.assertEqual(passed, ["turn", ["same"], "given", [[[0, 30]], [[1, 20]]]])
         self.assertEqual(shown(world.events), shown((("turn", ("same",), "given", (((0, 30),), ((1, 20),))),)))
 
     def test_what_is_passed_is_not_kept(self):

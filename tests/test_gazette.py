@@ -127,6 +127,7 @@ class GazetteTest(Case):
         start = [[[0, 30]], [[1, 20]]]
         gazette = Gazette(example())
         gazette.turn(example(), start)
+        self.assertEqual(start, [[[0, 30]], [[1, 20]]])
         start[0][0][1] = 31
         start[1].pop()
         self.assertEqual(gazette.newest_start, WARM)

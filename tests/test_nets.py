@@ -36,6 +36,7 @@ class NetTest(Case):
         net = Net()
         letter = ["bid", 0, 1, 2, 3]
         self.assertIs(net.send(letter=letter), True)
+        self.assertEqual(letter, ["bid", 0, 1, 2, 3])
         letter[1] = 5
         self.answers((("bid", 0, 1, 2, 3),), lambda: net.letters)
         self.answers(("bid", 0, 1, 2, 3), net.at, 0)
