@@ -1,6 +1,12 @@
 from heldbest.clerks import Clerk
 from heldbest.errors import BadSlips, OutOfRange
+from heldbest.events import act
+from heldbest.moments import slips_now
+from heldbest.serving import rest
+from heldbest.slips import slips_fault
 from heldbest.tables import Table
+from heldbest.traces import read_event
+from heldbest.worlds import World
 from tests.helping import HUGE, Case, example
 from tests.test_slips import COLD, GOOD, WRONG_SLIPS
 
@@ -91,6 +97,26 @@ class ClerkTest(Case):
         one, two = Clerk(example(), 0), Clerk(example(), 0)
         one.note(*GOOD)
         self.answers((None, None), lambda: two.noted)
+
+    def test_slips_of_unlike_moments(self):
+        world = World(example())
+        early = slips_now(world)
+        for line in ("nudge 1", "bring 0", "nudge 0", "bring 0", "sync 0", "bring 0", "bring 0", "nudge 0", "bring 0"):
+            act(world, read_event(line))
+        late = slips_now(world)
+        self.assertEqual((early[0], late[0]), ((0, 0, 0, 0, ()), (0, 0, 2, 2, ((0, 2),))))
+        rest(world)
+        clerk = Clerk(example(), 0)
+        clerk.note(*early)
+        self.answers((0, (0, 0), ()), lambda: (clerk.worth(), clerk.bills(), clerk.lot))
+        clerk.note(late[0])
+        self.answers((4, (0, 0), (0,)), lambda: (clerk.worth(), clerk.bills(), clerk.lot))
+        clerk.note(slips_now(world)[1])
+        self.assertEqual(clerk.trouble is None, slips_fault(example(), 0, clerk.noted) is None)
+        clerk.note(slips_now(world)[0])
+        self.answers((6, (3, 2), (0, 1, 2)), lambda: (clerk.worth(), clerk.bills(), clerk.lot))
+        clerk.note(early[1])
+        self.answers((4, (3, 0), (0,)), lambda: (clerk.worth(), clerk.bills(), clerk.lot))
 
     def test_without_seekers(self):
         clerk = Clerk(Table([3], [], 4), 0)

@@ -502,6 +502,20 @@ class CompactTest(Events):
         world = done(given(((0, 30),), ((1, 20),)), ("nudge", 0), ("compact", "seeker", 0))
         self.assertEqual(disk_view(world, "seeker", 0)[1], seeker_head(1, 1, (0, 30)))
 
+    def test_houses_in_an_older_era(self):
+        head = desk_head(1, 0, 1, 1, ((0, 1),))
+        world = done(("nudge", 0), ("bring", 0), ("sync", 0), cold(("places", 0, 2)), ("compact", "desk", 0))
+        self.assertEqual(disk_view(world, "desk", 0)[1:], (head, None))
+        self.assertEqual(desk_view(world, 0), (0, 1, 1, ((0, 1),), ()))
+        do(world, ("compact", "seeker", 0), ("tear", "seeker", 0, 5), ("tear", "desk", 0, 0))
+        self.assertEqual(disk_view(world, "seeker", 0), ("head ", seeker_head(1, 0, (0, 1)), None))
+        self.assertEqual(disk_view(world, "desk", 0), ("", head, None))
+
+    def test_down_is_told_ahead_of_what_is_pending(self):
+        world = done(("fall", "desk", 0, 0))
+        world.desk_homes[0].disk.add(0, "x")
+        self.stays(Down("desk", 0), world, ("compact", "desk", 0), ("tear", "desk", 0, 0), ("tear", "desk", 0, -1))
+
     def test_records_are_added_to_the_current_slot(self):
         world = done(("compact", "desk", 0), ("compact", "seeker", 0), ("nudge", 0), ("bring", 0))
         self.assertEqual(disk_view(world, "desk", 0)[2], (1, False, take_record(0, 1)))
